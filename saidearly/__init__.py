@@ -1,0 +1,1 @@
+"""Saidearly: what may be said of the difference of two texts before they end."""

@@ -13,6 +13,16 @@ INTERFACE = {
     "scripts": {"points": "script", "kept": "script", "widest": "script", "is_allowed": "script promise",
                 "fits": "script left right", "turned": "script", "price": "script left right prices"},
     "grids": {name: "left right prices promise" for name in ("grid", "least", "least_script", "least_many")},
+    "papers": {"heights": "left right prices promise", "is_bound": "left right prices promise rows",
+               "is_least": "left right prices promise script rows"},
+    "standings": {"Standing": {"__init__": "prices promise", "grow": "side text", "close": "side", "head": "side",
+                               "is_open": "side", "prices": "", "promised": "", "twin": "", "least": "", "rim": ""},
+                  "echo": "standing point", "price_behind": "standing going_on"},
+    "tips": {"tips": "standing", "form": "standing", "alike": "one other", "parting": "one other"},
+    "orders": {"greatest_difference": "one other"},
+    "nearest": {"Nearest": {"__init__": "prices elders", "grow": "text", "right": "", "can_be_nearest": "",
+                            "loss_of": "index"}},
+    "sayings": {"is_saying": "thing", "holds": "saying standing script", "atoms": "saying"},
 }
 
 

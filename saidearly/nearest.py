@@ -31,7 +31,7 @@ class Nearest:
     def can_be_nearest(self):
         """Return the indexes of the elders that are nearest for some continuation."""
         # If an elder is nearest for any continuation, it is so for a rest of its own.
-        rows = [worths for _, worths in self._searched()]
+        rows = [row for _, row in self._searched()]
         return tuple([index for index in range(len(self._elders))
                       if any([worths[index] == min(worths) for worths in rows])])
 

@@ -72,7 +72,9 @@ class Grammar(unittest.TestCase):
                       ("alone", "left", 0, 0), ("alone", None, 0), ("alone", 0, 0), ["alone", "left", 0], ("begins",),
                       ("begins", "x"), ("begins", None), ("begins", 0), ("begins", "k", "k"), ("begins", ("k",)),
                       ["begins", "k"], ("begins", ["k"]), ("is", 0, 0), ("", 0, 0), (None, 0, 0), (0, 0, 0),
-                      ((), 0, 0), "kept", "begins", ("Kept", 0, 0), ("kept", (0,), 0)]:
+                      ((), 0, 0), "kept", "begins", ("Kept", 0, 0), ("kept", (0,), 0),
+                      ("is", "left", 0), ("", "right", 1), (None, "left", 0), ("kept", "left", 0), ("is", "k"),
+                      (0, ""), ("kept", "k"), ("alone", "k"), ("not", "k"), ("begins", "left", 0)]:
             self.wrong(thing)
 
     def test_words(self):

@@ -3,6 +3,7 @@ import unittest
 
 from helpers import NONE, PLAIN, PROMISES, UNEVEN, random_prices, random_text, rng, slow_least
 from saidearly.errors import Broken, NotComparable
+from saidearly.letters import is_going_on
 from saidearly.prices import Prices
 from saidearly.standings import Standing, echo, price_behind
 from saidearly.tips import alike, form, parting, tips
@@ -197,6 +198,7 @@ class Forms(unittest.TestCase):
     def check_parting(self, one, other):
         for first, second in ((one, other), (other, one)):
             going_on = parting(first, second)
+            self.assertIs(is_going_on(going_on), True)
             longest = max(len(tip[1]) for standing in (one, other) for tip in tips(standing))
             self.assertLessEqual(max(len(text) for text in going_on), longest + 12)
             self.assertNotEqual(price_behind(first, going_on), price_behind(second, going_on))

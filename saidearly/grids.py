@@ -25,15 +25,28 @@ def least(left, right, prices, promise):
 
 def least_script(left, right, prices, promise):
     """Return the first of the cheapest allowed scripts, or None."""
+    return script_from(left, right, prices, promise, (0, 0))
+
+
+def script_from(left, right, prices, promise, start):
+    """Return the first of the cheapest allowed steps from a point to the end of both texts, or None."""
     rows = rests(left, right, prices, promise)
-    if rows[0][0] is None:
+    if rows[start[0]][start[1]] is None:
         return None
     script = []
-    point = (0, 0)
+    point = start
     while point != (len(left), len(right)):
         step, point = _first_cheapest(steps_from(left, right, prices, point), rows, point)
         script.append(step)
     return "".join(script)
+
+
+def led_from(left, right, prices, promise, start):
+    """Return the smallest price of allowed steps from a point to each point to which such steps lead."""
+    i, j = start
+    width = _width(left, right, promise)
+    rows = _filled(left[i:], right[j:], prices, j - i - width, j - i + width)
+    return {(i + a, j + b): entry for a, row in enumerate(rows) for b, entry in enumerate(row) if entry is not None}
 
 
 def least_many(left, right, prices, promise):

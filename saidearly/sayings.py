@@ -43,7 +43,22 @@ def atoms(saying):
 def holds(saying, standing, script):
     """Tell whether a script, which need not fit any texts, holds a saying about the heads of a standing."""
     check_saying(saying, standing)
-    return _is_held(saying, standing.head("left"), standing.head("right"), script)
+    left = standing.head("left")
+    right = standing.head("right")
+    return is_held_by(saying, {atom: _is_atom_held(atom, left, right, script) for atom in atoms(saying)})
+
+
+def is_held_by(saying, truths):
+    """Tell whether a saying is held where its atoms are so, each as truths has it."""
+    inner = _inner_of(saying)
+    if not inner:
+        return truths[saying]
+    held = [is_held_by(part, truths) for part in inner]
+    if saying[0] == "not":
+        return not held[0]
+    if saying[0] == "and":
+        return all(held)
+    return any(held)
 
 
 def check_saying(saying, standing):
@@ -94,18 +109,6 @@ def _letters_of(atom):
     if atom[0] == "alone":
         return [(atom[1], atom[2])]
     return []
-
-
-def _is_held(saying, left, right, script):
-    inner = _inner_of(saying)
-    if not inner:
-        return _is_atom_held(saying, left, right, script)
-    held = [_is_held(part, left, right, script) for part in inner]
-    if saying[0] == "not":
-        return not held[0]
-    if saying[0] == "and":
-        return all(held)
-    return any(held)
 
 
 def _is_atom_held(atom, left, right, script):

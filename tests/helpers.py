@@ -98,6 +98,22 @@ def slow_behind(standing, going_on):
     return worth
 
 
+def random_saying(chance, n, m, depth=2, denied=False):
+    """Some saying about heads of n and m letters, not both empty; its "begins" may leave them."""
+    kind = chance.randint(0, 5 if depth else 2)
+    if kind == 3:
+        return ("not", random_saying(chance, n, m, depth - 1, True))
+    if kind > 3:
+        return (("and", "or")[kind - 4], random_saying(chance, n, m, depth - 1, denied),
+                random_saying(chance, n, m, depth - 1, denied))
+    if kind == 0 and not denied:
+        return ("begins", "".join(chance.choice("kkdp") for _ in range(chance.randint(0, 3))))
+    if kind == 1 and n and m:
+        return ("kept", chance.randrange(n), chance.randrange(m))
+    side = "left" if n and (not m or chance.random() < 0.5) else "right"
+    return ("alone", side, chance.randrange(n if side == "left" else m))
+
+
 def odd_values():
     """Values of all kinds that [4] names; hardly any of them is as a point describes."""
     deep = ()

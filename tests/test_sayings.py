@@ -1,6 +1,6 @@
 import unittest
 
-from helpers import NONE, PLAIN, odd_values, random_text, rng
+from helpers import NONE, PLAIN, odd_values, random_saying, random_text, rng
 from saidearly.errors import EarlyError, NoSaying, NoSuchLetter
 from saidearly.lanes import Lane
 from saidearly.sayings import atoms, holds, is_saying
@@ -242,24 +242,9 @@ class Holding(unittest.TestCase):
 
     def test_against_a_slow_way(self):
         chance = rng(40)
-
-        def some_saying(depth, n, m, denied):
-            kind = chance.randint(0, 5 if depth else 2)
-            if kind == 3:
-                return ("not", some_saying(depth - 1, n, m, True))
-            if kind > 3:
-                return (("and", "or")[kind - 4], some_saying(depth - 1, n, m, denied),
-                        some_saying(depth - 1, n, m, denied))
-            if kind == 0 and not denied:
-                return ("begins", "".join(chance.choice("kkdp") for _ in range(chance.randint(0, 3))))
-            if kind == 1 and n and m:
-                return ("kept", chance.randrange(n), chance.randrange(m))
-            side = "left" if n and (not m or chance.random() < 0.5) else "right"
-            return ("alone", side, chance.randrange(n if side == "left" else m))
-
         for _ in range(1500):
             left, right = random_text(chance, 3, 2), (1,) + random_text(chance, 3, 2)
-            saying = some_saying(2, len(left), len(right), False)
+            saying = random_saying(chance, len(left), len(right))
             standing = made(left, right)
             script = "".join(chance.choice("kkdp") for _ in range(chance.randint(0, 6)))
             if is_saying(saying):

@@ -40,6 +40,11 @@ class Prices:
         return isinstance(other, Prices) and self._table == other._table
 
 
+def prices_of_pair(pair, text):
+    """Return prices by which each letter of a text has those of a pair."""
+    return Prices({letter: pair for letter in text})
+
+
 def _is_table(thing):
     if not isinstance(thing, dict):
         return False

@@ -4,12 +4,13 @@ from saidearly.errors import NoStand, NotSent, Wrong
 from saidearly.findings import Findings
 from saidearly.grids import least
 from saidearly.letters import is_pair, is_within
-from saidearly.patterns import cut, grown, tick_of
+from saidearly.patterns import grown, last_letters, tick_of
 from saidearly.prices import prices_of_pair
 from saidearly.rimheights import heights_behind
 from saidearly.rulebooks import Rulebook
 from saidearly.senders import Sender
 from saidearly.speakers import paid_for, speak, spoken
+from saidearly.walks import leaving
 
 WIDEST_LAG = 2
 NO_PROMISE = ("none",)
@@ -38,9 +39,7 @@ class GainTable:
         while number < self._findings.many_stands():
             self._leave(number)
             number += 1
-        self._leaving = [[] for _ in self.stands()]
-        for number, arrow in enumerate(self.arrows()):
-            self._leaving[arrow[0]].append(number)
+        self._leaving = leaving(self.arrows(), self._findings.many_stands())
 
     def stands(self):
         """Return the tuples (place, mark, waits, pattern, heights)."""
@@ -104,14 +103,10 @@ class GainTable:
         for x, y, to in self._sender.moves(place, pattern):
             said, after, on_left, on_right = speak(self._book, mark, left + (x,), right + (y,))
             ahead, growth = heights_behind(heights, pattern[0], pattern[1], (x, y), self._pair, self._lag)
-            behind = (to, after, (len(on_left), len(on_right)), self._remembered(grown(pattern, (x, y))), ahead)
+            remembered = last_letters(grown(pattern, (x, y)), self._memory, self._memory)
+            behind = (to, after, (len(on_left), len(on_right)), remembered, ahead)
             target = self._findings.number_of(behind)
             self._findings.add_arrow((number, x, y, paid_for(said, self._pair) - growth, target))
-
-    def _remembered(self, pattern):
-        """Return the pattern of the last letters of one that matter."""
-        spare = max(0, len(pattern[0]) - self._memory)
-        return cut(pattern, spare, spare)
 
 
 def loss_of(book, pair, lag, left, right):

@@ -31,13 +31,21 @@ def cut(pattern, left, right):
     return pattern_of(pattern[0][left:], pattern[1][right:])
 
 
+def last_letters(pattern, left, right):
+    """Return the pattern of so many last letters of each side of one, or of all."""
+    return cut(pattern, max(0, len(pattern[0]) - left), max(0, len(pattern[1]) - right))
+
+
 def letters_of(left, right, tick, new):
-    """Return two letters that are a tick for the pattern of two texts; new are two that are in neither text."""
+    """Return two letters that are a tick for the pattern of two texts; new are two that are in neither text.
+
+    Where only one letter has to be new, it is the first one of these.
+    """
     known = list({letter: True for letter in left + right})
-    if tick[0] == len(known):
-        known.append(new[0])
-    if tick[1] == len(known):
-        known.append(new[1])
+    many = len(known)
+    for number in tick:
+        if number == len(known):
+            known.append(new[number - many])
     return known[tick[0]], known[tick[1]]
 
 

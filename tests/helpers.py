@@ -128,3 +128,62 @@ def odd_values():
             {0: (1, 1)}, {"a": ()}, {(): None}, {None: [1]}, Lane(), Prices({}), Prices({1: (2, 3)}), Wrong(0),
             EarlyError("x"), (Lane(), Prices({})), [Lane()], deep, deeper, tuple(range(2999)), list(range(2999)),
             "k" * 3000]
+
+
+class Graph:
+    """A table of a few arrows (stand, gain, target), for what asks for no more of a table."""
+
+    def __init__(self, many, arrows, closings=None):
+        self.many = many
+        self.told = [(stand, 0, 0, gain, target) for stand, gain, target in arrows]
+        self.closings = closings or [0] * many
+
+    def stands(self):
+        return [(0, 0, (0, 0), ((), ()), (0,)) for _ in range(self.many)]
+
+    def arrows(self):
+        return list(self.told)
+
+    def closing(self, stand):
+        return self.closings[stand]
+
+
+def random_graph(chance, most=6, extra=6, reach=5):
+    """Some graph all of whose stands can be reached from stand 0."""
+    many = chance.randint(1, most)
+    arrows = [(chance.randrange(at), chance.randint(-reach, reach), at) for at in range(1, many)]
+    arrows += [(chance.randrange(many), chance.randint(-reach, reach), chance.randrange(many))
+               for _ in range(chance.randint(0, extra))]
+    return Graph(many, sorted(arrows), [chance.randint(-3, 6) for _ in range(many)])
+
+
+def slow_rings(table):
+    """All rings of a small table, each from each of its stands."""
+    arrows = table.arrows()
+    found = []
+
+    def go_on(walk, start, seen):
+        at = arrows[walk[-1]][4] if walk else start
+        if walk and at == start:
+            found.append(walk)
+            return
+        if at in seen:
+            return
+        for number, arrow in enumerate(arrows):
+            if arrow[0] == at:
+                go_on(walk + [number], start, seen | {at})
+
+    for start in range(len(table.stands())):
+        go_on([], start, set())
+    return found
+
+
+def walk_gain(table, walk):
+    return sum(table.arrows()[number][3] for number in walk)
+
+
+def is_walk(table, walk, start=None):
+    """Whether a list of numbers of arrows is a walk, perhaps from a stand."""
+    arrows = [table.arrows()[number] for number in walk]
+    joined = all(one[4] == other[0] for one, other in zip(arrows, arrows[1:]))
+    return joined and (start is None or not arrows or arrows[0][0] == start)

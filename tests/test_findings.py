@@ -20,6 +20,16 @@ class Counting(unittest.TestCase):
         self.assertEqual(findings.stand_list(), ["first"] + list(range(599)))
         self.assertEqual(findings.stand_at(7), 6)
 
+    def test_other_bounds(self):
+        findings = Findings("first", 2)
+        self.assertEqual((findings.is_found("first"), findings.is_found("next")), (True, False))
+        self.assertEqual(findings.number_of("next"), 1)
+        self.assertTrue(findings.is_found("next"))
+        with self.assertRaises(TooMany) as caught:
+            findings.number_of("one more")
+        self.assertEqual(caught.exception.count, 3)
+        self.assertFalse(findings.is_found("one more"))
+
     def test_arrows(self):
         findings = Findings(0)
         for number in range(8000):

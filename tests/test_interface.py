@@ -50,6 +50,15 @@ INTERFACE = {
     "gains": {"loss_of": "book pair lag left right",
               "GainTable": {"__init__": "book pair lag sender", "stands": "", "arrows": "", "closing": "stand",
                             "walk": "left right"}},
+    "rings": {"worst_ring": "table", "is_bounded": "table", "heights": "table num den", "greatest_loss": "table"},
+    "shown": {"texts_of": "table walk", "texts_round": "table ring rounds"},
+    "lossjudge": {"is_height_table": "table rows num den", "is_ring": "table walk", "bound_by": "table rows num den",
+                  "mean_of": "table walk"},
+    "teaser": {"tease": "book pair blocks"},
+    "versus": {"same_scripts": "book other", "dearer": "book other pair",
+               "VersusTable": {"__init__": "book other pair", "stands": "", "arrows": "", "walk": "left right",
+                               "closing": "stand"}},
+    "trims": {"without_rule": "book rule", "needless": "book", "least_window": "book"},
 }
 
 

@@ -22,7 +22,8 @@ UNUSED = set("""register mro elements open input law version_info with_traceback
     methodcaller os quit setattr super type vars sys""".split())
 DUNDERS = {"__init__", "__eq__"}
 STATEMENTS = (ast.Module, ast.FunctionDef, ast.ClassDef, ast.Return, ast.Assign, ast.AugAssign, ast.For, ast.While,
-              ast.If, ast.Raise, ast.ImportFrom, ast.Expr, ast.Pass, ast.Break, ast.Continue, ast.Delete)
+              ast.If, ast.Raise, ast.ImportFrom, ast.Expr, ast.Pass, ast.Break, ast.Continue, ast.Delete, ast.Try)
+LIBRARY = {"math": ["gcd"]}
 
 
 def files():
@@ -116,6 +117,10 @@ class Statements(unittest.TestCase):
             for node in nodes:
                 self.assertIsInstance(node, ast.ImportFrom)
                 self.assertEqual(node.level, 0)
+                if node.module in LIBRARY:
+                    self.assertLessEqual({alias.name for alias in node.names}, set(LIBRARY[node.module]))
+                    self.assertEqual([alias.asname for alias in node.names], [None] * len(node.names))
+                    continue
                 package, other = node.module.split(".")
                 self.assertEqual(package, "saidearly")
                 for alias in node.names:
@@ -125,7 +130,8 @@ class Statements(unittest.TestCase):
             self.assertEqual(len(names), len(set(names)), file)
 
     def test_imports_go_one_way(self):
-        needs = {name[:-3]: {node.module.split(".")[1] for node in ast.walk(tree) if isinstance(node, ast.ImportFrom)}
+        needs = {name[:-3]: {node.module.split(".")[1] for node in ast.walk(tree)
+                             if isinstance(node, ast.ImportFrom) and node.module not in LIBRARY}
                  for name, tree in trees()}
         left = dict(needs)
         while left:
@@ -141,6 +147,49 @@ class Statements(unittest.TestCase):
                 if isinstance(node, ast.ImportFrom):
                     for alias in node.names:
                         self.assertIn(alias.name, used, name)
+
+    def test_what_is_taken_from_the_library_is_only_called(self):
+        for name, tree in trees():
+            called = [node.func for node in ast.walk(tree) if isinstance(node, ast.Call)]
+            for node in ast.walk(tree):
+                if isinstance(node, ast.Name) and node.id in sum(LIBRARY.values(), []):
+                    self.assertIn(node, called, (name, node.lineno))
+
+    def test_only_own_errors_are_caught(self):
+        own = {node.name for name, tree in trees() if name == "errors.py" for node in tree.body
+               if isinstance(node, ast.ClassDef)}
+        for name, tree in trees():
+            for node in ast.walk(tree):
+                if isinstance(node, ast.Try):
+                    self.assertEqual((node.orelse, node.finalbody), ([], []))
+                    for handler in node.handlers:
+                        self.assertIn(ast.unparse(handler.type), own, name)
+
+    def test_no_loop_changes_what_it_goes_over(self):
+        """[L23], as far as it goes by names."""
+        changing = ("append", "extend", "pop", "insert", "remove", "clear", "update", "setdefault", "reverse")
+        for name, tree in trees():
+            for node in ast.walk(tree):
+                if isinstance(node, ast.For):
+                    gone_over = {ast.unparse(part) for part in ast.walk(node.iter)
+                                 if isinstance(part, (ast.Name, ast.Attribute))}
+                    for part in ast.walk(node):
+                        if isinstance(part, ast.Call) and isinstance(part.func, ast.Attribute):
+                            if part.func.attr in changing:
+                                self.assertNotIn(ast.unparse(part.func.value), gone_over, (name, node.lineno))
+                        if isinstance(part, ast.Subscript) and isinstance(part.ctx, (ast.Store, ast.Del)):
+                            self.assertNotIn(ast.unparse(part.value), gone_over, (name, node.lineno))
+
+    def test_sets_stand_where_they_may(self):
+        """L24: only in len, in sorted, or behind in."""
+        for name, tree in trees():
+            fair = []
+            for node in ast.walk(tree):
+                if isinstance(node, ast.Call) and ast.unparse(node.func) in ("len", "sorted"):
+                    fair.extend(node.args)
+            for node in ast.walk(tree):
+                if isinstance(node, ast.Call) and ast.unparse(node.func) == "set":
+                    self.assertIn(node, fair, (name, node.lineno))
 
     def test_statements(self):
         for name, tree in trees():

@@ -81,6 +81,19 @@ class Comparer:
         best = min(ranked)
         return self._say((best[2], best[3]))
 
+    def twin(self):
+        """Return an independent comparer in the same state."""
+        other = Comparer(self._standing.prices(), self._standing.promised(), self._rooms)
+        # Lanes and standings are replaced as a whole, never changed, so that twins may share them.
+        other._lanes = dict(self._lanes)
+        other._standing = self._standing
+        other._said = self._said
+        return other
+
+    def is_like(self, other):
+        """Tell whether another comparer has equal lanes and has said the same."""
+        return self._lanes == other._lanes and self._said == other._said
+
     def bill(self):
         """Return the greatest extra of what was said, and the first echo at which it is reached."""
         return greatest_extra(self._standing, ("begins", self._said))

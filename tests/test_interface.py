@@ -59,6 +59,20 @@ INTERFACE = {
                "VersusTable": {"__init__": "book other pair", "stands": "", "arrows": "", "walk": "left right",
                                "closing": "stand"}},
     "trims": {"without_rule": "book rule", "needless": "book", "least_window": "book"},
+    "games": {"GameTable": {"__init__": "window lag pair", "stands": "", "ticks": "stand", "moves": "stand tick",
+                            "closing": "stand", "value": "", "best_move": "stand tick", "best_tick": "stand",
+                            "played": "many", "speaker_heights": "", "teaser_heights": ""}},
+    "gamejudge": {name: "table rows num den" for name in ("is_speaker_table", "is_teaser_table", "speaker_bound",
+                                                          "teaser_bound")},
+    "waits": {"waits": "left right pair lag",
+              "WaitTable": {"__init__": "sender pair lag", "stands": "", "arrows": "", "rows": "", "steps": "",
+                            "ranks": "", "longest": "", "texts": "wait"}},
+    "deltas": {"is_delta": "thing", "of_script": "script right", "script_of": "delta", "put_by": "delta",
+               "applied": "delta left", "cost": "delta left prices", "back": "delta left", "chained": "one other"},
+    "streams": {"written": "delta", "read": "text",
+                "Writer": {"__init__": "", "say": "steps text", "close": ""}},
+    "book": {"Book": {"__init__": "prices promise rooms", "__eq__": "other", "do": "deed", "heads": "", "said": "",
+                      "delta": "", "claims": "", "log": "", "back": "", "again": "", "twin": "", "trial": "deeds"}},
 }
 
 

@@ -84,7 +84,7 @@ def chained(one, other):
     while firsts or seconds:
         if firsts and firsts[-1][0] == "drop":
             found.append(firsts.pop())
-        elif seconds and seconds[-1][0] == "put":
+        elif seconds[-1][0] == "put":
             found.append(seconds.pop())
         else:
             found.extend(_both_done(firsts, seconds))

@@ -7,13 +7,12 @@ from saidearly.rimheights import heights_behind, lots_behind
 from saidearly.walks import leaving, shortest_walk, texts_along
 
 MOST_ROWS = 2000
-FIRST_HEIGHTS = (0,)
-FIRST_STAND = (0, ((), ()), FIRST_HEIGHTS)
+FIRST_STAND = (0, ((), ()), (0,))
 
 
 def waits(left, right, pair, lag):
     """Return the waits behind 0, 1, .. ticks of two texts of equal length."""
-    heights = FIRST_HEIGHTS
+    heights = (0,)
     # For each lot of a point the greatest max(i, j) of such a point; that of (0, 0) has all rim points for good.
     latest = {(0,): 0}
     found = [0]
@@ -22,11 +21,11 @@ def waits(left, right, pair, lag):
         on_left, on_right, tick = left[first:at], right[first:at], (left[at], right[at])
         leads = lots_behind(heights, on_left, on_right, tick, pair, lag)
         heights, _ = heights_behind(heights, on_left, on_right, tick, pair, lag)
-        ahead = latest
-        latest = {lot: at + 1 for lot in leads[1]}
-        for lot in ahead:
-            behind = _lot_behind(lot, leads[0])
-            latest[behind] = max(latest.get(behind, 0), ahead[lot])
+        behind = {lot: at + 1 for lot in leads[1]}
+        for lot, place in latest.items():
+            after = _lot_behind(lot, leads[0])
+            behind[after] = max(behind.get(after, 0), place)
+        latest = behind
         found.append(at + 1 - latest[tuple(range(len(heights)))])
     return found
 

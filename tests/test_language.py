@@ -102,7 +102,7 @@ class Statements(unittest.TestCase):
                 self.assertTrue(is_docstring or isinstance(node, (ast.ImportFrom, ast.ClassDef, ast.FunctionDef,
                                                                   ast.Assign)), (name, node.lineno))
                 if isinstance(node, ast.Assign):
-                    self.assertFalse([part for part in ast.walk(node.value) if isinstance(part, ast.Call)])
+                    self.assertFalse([part for part in ast.walk(node.value) if isinstance(part, (ast.Call, ast.Name))])
                     self.assertIsInstance(node.targets[0], ast.Name)
 
     def test_imports_are_of_what_the_named_file_defines(self):

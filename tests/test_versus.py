@@ -175,6 +175,51 @@ class Same(unittest.TestCase):
         self.assertGreater(alike, 20)
         self.assertGreater(sum(length >= 2 for length in lengths), 20)
 
+    def test_differences_by_letters_of_three_ticks(self):
+        """Rules that ask for much of the letters of three ticks, all of which wait."""
+        chance = rng(803)
+        texts = {many: patterns_of_length(many) for many in (1, 2, 3)}
+        spots = [("same", i, j) for i in range(3) for j in range(3)]
+        spots += [("twin", side, i, k) for side in ("left", "right") for i, k in ((0, 1), (0, 2), (1, 2))]
+        late = 0
+        for _ in range(60):
+            equal = chance.sample(spots, chance.choice([1, 1, 2, 3]))
+            unlike = [("unlike",) + spot[1:] for spot in chance.sample(spots[:9], 4 - len(equal)) if spot not in equal]
+            asked = tuple(equal + unlike)
+            window = chance.choice([3, 3, 4])
+            one = Rulebook(window, 1, ((None, asked, chance.choice(["dp", "pd", "pdpd", "ddp"]), 0),))
+            other = Rulebook(window, 1, (one.rules()[0][:2] + (chance.choice(["d", "p"]), 0),) * chance.randint(0, 1))
+            short = [many for many in (1, 2, 3) if any(
+                spoken(one, (1, 1), *pair) != spoken(other, (1, 1), *pair) for pair in texts[many])]
+            found = same_scripts(one, other)
+            if short:
+                left, right = found
+                self.assertEqual((len(left), len(right)), (short[0], short[0]))
+                self.assertNotEqual(slow_spoken(one, (1, 1), left, right), slow_spoken(other, (1, 1), left, right))
+                late += short[0] == 3
+            elif found is not None:
+                self.assertGreater(len(found[0]), 3)
+        self.assertGreater(late, 20)
+
+    def test_letters_that_have_waited_long(self):
+        for tests in ((("same", 3, 0),), (("same", 0, 3),), (("twin", "left", 0, 3),), (("twin", "right", 0, 3),),
+                      (("same", 3, 0), ("unlike", 0, 0), ("unlike", 1, 0), ("unlike", 2, 0)),
+                      (("same", 0, 3), ("unlike", 0, 0), ("unlike", 0, 1), ("unlike", 0, 2))):
+            one, other = Rulebook(4, 1, (rule(tests, "pd"),)), Rulebook(4, 1, ())
+            self.assertFalse(self.check(one, other))
+            self.assertEqual(len(same_scripts(one, other)[0]), 4)
+
+    def test_letters_that_are_all_unlike(self):
+        # Where some of these are equal both say the same.
+        equal = [("twin", "left", 0, 1), ("twin", "right", 0, 1), ("twin", "left", 0, 2), ("twin", "left", 1, 2),
+                 ("same", 2, 0), ("same", 2, 1), SAME]
+        rules = tuple(rule((test,), "dp") for test in equal)
+        unlike = ("unlike", 0, 1), ("unlike", 1, 0), ("unlike", 1, 1), ("many", "left", 3)
+        one, other = Rulebook(3, 1, rules + (rule(unlike, "pppd"),)), Rulebook(3, 1, rules)
+        self.assertFalse(self.check(one, other))
+        left, right = same_scripts(one, other)
+        self.assertEqual((len(left), len(set(left + right[:2]))), (3, 5))
+
     def test_either_way(self):
         chance = rng(802)
         for _ in range(60):

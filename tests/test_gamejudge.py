@@ -1,9 +1,10 @@
 import unittest
+from math import gcd
 
 from helpers import odd_values, rng, slow_least, slow_price
-from saidearly.errors import NotHeights
+from saidearly.errors import NotHeights, Unsettled
 from saidearly.gamejudge import is_speaker_table, is_teaser_table, speaker_bound, teaser_bound
-from saidearly.games import GameTable
+from saidearly.games import GameTable, _solution_of
 from saidearly.patterns import pattern_of
 from test_gains import priced
 from test_games import is_table
@@ -131,6 +132,31 @@ class Judging(unittest.TestCase):
         before = list(rows)
         speaker_bound(table, rows, *table.value())
         self.assertEqual(rows, before)
+
+
+class Solving(unittest.TestCase):
+    """[84]: how a GameTable finds its value, on small games in which losses come round in more than one tick"""
+
+    def test_random_games(self):
+        chance = rng(854)
+        unlike = 0
+        unsettled = 0
+        for _ in range(900):
+            many = chance.randint(2, 4)
+            game = Game([[[(chance.randint(-3, 3), chance.randrange(many)) for _ in range(chance.randint(1, 2))]
+                          for _ in range(chance.randint(1, 2))] for _ in range(many)], [0] * many)
+            try:
+                (num, den), up, down = _solution_of([[[((0, 0), gain, target) for gain, target in moves]
+                                                      for moves in row] for row in game.leads])
+            except Unsettled:
+                unsettled += 1
+                continue
+            self.assertEqual((gcd(num, den), den >= 1), (1, True))
+            self.assertTrue(is_speaker_table(game, up, num, den))
+            self.assertTrue(is_teaser_table(game, down, num, den))
+            unlike += up != down and not is_speaker_table(game, down, num, den)
+        self.assertGreater(unlike, 3)
+        self.assertGreater(unsettled, 20)
 
 
 class Proving(unittest.TestCase):
